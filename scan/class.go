@@ -28,6 +28,12 @@ func not(c class) class {
 	return func(b byte) bool { return !c(b) }
 }
 
+// letter and digit are written out, not put together: later layers ask for so many names that making their classes each time would be most of the work.
+
+func letter(b byte) bool { return 'a' <= b && b <= 'z' || 'A' <= b && b <= 'Z' || b == '_' }
+
+func digit(b byte) bool { return '0' <= b && b <= '9' }
+
 // at: a place beyond the text's end has no byte, so it is in no class.
 func (c class) at(src string, place int) bool {
 	return place < len(src) && c(src[place])
@@ -51,13 +57,11 @@ type alphabet struct {
 }
 
 func newAlphabet() alphabet {
-	digit := between('0', '9')
-	first := either(between('a', 'z'), between('A', 'Z'), oneOf("_"))
 	return alphabet{
 		blank:  oneOf("\t\n\r "),
 		remark: not(oneOf("\n")),
-		first:  first,
-		inner:  either(first, digit),
+		first:  letter,
+		inner:  either(letter, digit),
 		digit:  digit,
 		quote:  oneOf("\""),
 		plain:  not(oneOf("\"\\\n")),

@@ -25,9 +25,13 @@ func Scan(src string) (list []api.Token, at int, e api.Errno) {
 
 // Name: is it a name?
 func Name(s string) bool {
-	if s == "" || len(s) > api.MaxName {
+	if s == "" || len(s) > api.MaxName || digit(s[0]) || isWord(s) {
 		return false
 	}
-	token, end, ok := newReader(s).token(0)
-	return ok && end == len(s) && token.Kind == api.TName
+	for i := range len(s) {
+		if !letter(s[i]) && !digit(s[i]) {
+			return false
+		}
+	}
+	return true
 }
