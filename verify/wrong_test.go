@@ -9,6 +9,7 @@ import (
 	"testing"
 
 	"halyard/api"
+	"halyard/sample"
 	"halyard/verify"
 )
 
@@ -50,50 +51,6 @@ func TestUnsound(t *testing.T) {
 	}
 }
 
-// spare: a list's whole room, that behind its end too.
-func spare[T any](list []T) []T { return list[:cap(list)] }
-
-// roomy: the list, with room behind its end that is not empty.
-func roomy[T any](fill T, list ...T) []T {
-	room := append(slices.Clone(list), fill, fill, fill)
-	return room[:len(list)]
-}
-
-// roomyWorld: a program all lists of which have room behind their ends.
-func roomyWorld(list ...api.Instr) api.Prog {
-	p := world(list...)
-	for i := range p.Types {
-		p.Types[i].Fields = roomy(77, p.Types[i].Fields...)
-	}
-	for i := range p.Funcs {
-		f := &p.Funcs[i]
-		f.Locals, f.Results, f.Areas = roomy(77, f.Locals...), roomy(77, f.Results...), roomy(77, f.Areas...)
-		f.Code = roomy(in(77, 78, 79), f.Code...)
-	}
-	for i := range p.Tables {
-		p.Tables[i] = roomy(77, p.Tables[i]...)
-	}
-	p.Types, p.Funcs = roomy(api.Layout{Fields: []int{5}}, p.Types...), roomy(api.Func{Params: 9}, p.Funcs...)
-	p.Tables, p.Strs = roomy([]int{77}, p.Tables...), roomy("x", p.Strs...)
-	return p
-}
-
-// opened: the program with all its spare room in sight.
-func opened(p api.Prog) api.Prog {
-	q := api.Prog{Types: slices.Clone(spare(p.Types)), Funcs: slices.Clone(spare(p.Funcs)), Tables: slices.Clone(spare(p.Tables)), Strs: slices.Clone(spare(p.Strs))}
-	for i := range q.Types {
-		q.Types[i].Fields = slices.Clone(spare(q.Types[i].Fields))
-	}
-	for i := range q.Funcs {
-		f := &q.Funcs[i]
-		f.Locals, f.Results, f.Areas, f.Code = slices.Clone(spare(f.Locals)), slices.Clone(spare(f.Results)), slices.Clone(spare(f.Areas)), slices.Clone(spare(f.Code))
-	}
-	for i := range q.Tables {
-		q.Tables[i] = slices.Clone(spare(q.Tables[i]))
-	}
-	return q
-}
-
 // calling is code that has to do with every list of the program.
 func calling() []api.Instr {
 	return slices.Concat(
@@ -105,8 +62,8 @@ func calling() []api.Instr {
 // R4: no call changes what it is given, spare room included, be it sound or not.
 func TestNothingIsChanged(t *testing.T) {
 	for k, list := range [][]api.Instr{calling(), {in(api.OpDyn, 1), halt}, {in(api.OpOut)}, {}} {
-		p := roomyWorld(list...)
-		old := opened(p)
+		p := sample.ProgInRoom(world(list...))
+		old := sample.ProgOpened(p)
 		if _, _, e := verify.Check(p); (e == api.OK) != (k == 0) {
 			t.Errorf("program %d: %d", k, e)
 		}
@@ -114,7 +71,7 @@ func TestNothingIsChanged(t *testing.T) {
 		verify.Size(p, 0)
 		verify.Stacks(p, 2)
 		verify.Stacks(p, -1)
-		if !reflect.DeepEqual(opened(p), old) {
+		if !reflect.DeepEqual(sample.ProgOpened(p), old) {
 			t.Errorf("program %d was changed", k)
 		}
 	}
@@ -122,8 +79,8 @@ func TestNothingIsChanged(t *testing.T) {
 
 // R4: what Stacks answers is new: it shares nothing with the program, nor with another answer, nor do its lists with one another.
 func TestAnswersAreNew(t *testing.T) {
-	p := roomyWorld(calling()...)
-	old := opened(p)
+	p := sample.ProgInRoom(world(calling()...))
+	old := sample.ProgOpened(p)
 	want, _, _ := verify.Stacks(p, 0)
 	want = slices.Clone(want)
 	for i := range want {
@@ -135,27 +92,27 @@ func TestAnswersAreNew(t *testing.T) {
 		t.Fatalf("Stacks: %v, %v, %d", first, come, e)
 	}
 	for i, list := range first {
-		for j := range spare(list) {
-			spare(list)[j] = 1000 + i
+		for j := range sample.Spare(list) {
+			sample.Spare(list)[j] = 1000 + i
 		}
 	}
 	for i, list := range first {
-		for _, x := range spare(list) {
+		for _, x := range sample.Spare(list) {
 			if x != 1000+i {
-				t.Errorf("list %d has another's items: %v", i, spare(list))
+				t.Errorf("list %d has another's items: %v", i, sample.Spare(list))
 			}
 		}
 	}
-	clear(spare(come))
-	if !reflect.DeepEqual(opened(p), old) {
+	clear(sample.Spare(come))
+	if !reflect.DeepEqual(sample.ProgOpened(p), old) {
 		t.Error("the program hangs on the answer")
 	}
 	if !slices.EqualFunc(again, want, slices.Equal[[]int]) {
 		t.Errorf("the second answer hangs on the first: %v, want %v", again, want)
 	}
 	for i := range p.Funcs {
-		clear(spare(p.Funcs[i].Results))
-		clear(spare(p.Funcs[i].Locals))
+		clear(sample.Spare(p.Funcs[i].Results))
+		clear(sample.Spare(p.Funcs[i].Locals))
 	}
 	if !slices.EqualFunc(again, want, slices.Equal[[]int]) {
 		t.Errorf("the answer hangs on the program: %v, want %v", again, want)

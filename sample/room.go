@@ -1,0 +1,52 @@
+package sample
+
+import (
+	"slices"
+
+	"halyard/api"
+)
+
+// Spare: a list's whole room, that behind its end too.
+func Spare[T any](list []T) []T { return list[:cap(list)] }
+
+// InRoom: the list, with room behind its end that is full of something else.
+func InRoom[T any](fill T, list []T) []T {
+	room := append(slices.Clone(list), fill, fill, fill)
+	return room[:len(list)]
+}
+
+// ProgInRoom: a program of the machine, all its lists in room.
+func ProgInRoom(p api.Prog) api.Prog {
+	q := api.Prog{Types: InRoom(api.Layout{Fields: []int{5}}, p.Types), Funcs: InRoom(api.Func{Params: 9}, p.Funcs)}
+	q.Tables, q.Strs = InRoom([]int{77}, p.Tables), InRoom("x", p.Strs)
+	for i := range q.Types {
+		q.Types[i].Fields = InRoom(77, q.Types[i].Fields)
+	}
+	for i := range q.Funcs {
+		f := &q.Funcs[i]
+		f.Locals, f.Results, f.Areas = InRoom(77, f.Locals), InRoom(77, f.Results), InRoom(77, f.Areas)
+		f.Code = InRoom(api.Instr{Op: 77, A: 78, B: 79}, f.Code)
+	}
+	for i := range q.Tables {
+		q.Tables[i] = InRoom(77, q.Tables[i])
+	}
+	return q
+}
+
+// ProgOpened: a program of the machine with all its spare room in sight, in memory of its own.
+func ProgOpened(p api.Prog) api.Prog {
+	q := api.Prog{Types: opened(p.Types), Funcs: opened(p.Funcs), Tables: opened(p.Tables), Strs: opened(p.Strs)}
+	for i := range q.Types {
+		q.Types[i].Fields = opened(q.Types[i].Fields)
+	}
+	for i := range q.Funcs {
+		f := &q.Funcs[i]
+		f.Locals, f.Results, f.Areas, f.Code = opened(f.Locals), opened(f.Results), opened(f.Areas), opened(f.Code)
+	}
+	for i := range q.Tables {
+		q.Tables[i] = opened(q.Tables[i])
+	}
+	return q
+}
+
+func opened[T any](list []T) []T { return slices.Clone(Spare(list)) }

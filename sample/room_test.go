@@ -1,0 +1,29 @@
+package sample_test
+
+import (
+	"reflect"
+	"testing"
+
+	"halyard/api"
+	"halyard/sample"
+)
+
+func TestProgInRoom(t *testing.T) {
+	p := api.Prog{
+		Types:  []api.Layout{{Fields: []int{0}}},
+		Funcs:  []api.Func{{Locals: []int{1}, Results: []int{2}, Areas: []int{3}, Code: []api.Instr{{Op: 4}}}},
+		Tables: [][]int{{5}}, Strs: []string{"6"},
+	}
+	q := sample.ProgInRoom(p)
+	if !reflect.DeepEqual(p, q) {
+		t.Errorf("%v; want %v", q, p)
+	}
+	all := sample.ProgOpened(q)
+	if len(all.Types) < 4 || len(all.Funcs) < 4 || len(all.Tables) < 4 || len(all.Strs) < 4 || len(all.Types[0].Fields) < 4 || len(all.Tables[0]) < 4 {
+		t.Errorf("there is little room: %v", all)
+	}
+	sample.Spare(q.Funcs[0].Code)[1].A = 1
+	if reflect.DeepEqual(sample.ProgOpened(q), all) {
+		t.Error("a change of spare room is not seen")
+	}
+}
