@@ -15,6 +15,22 @@ func InRoom[T any](fill T, list []T) []T {
 	return room[:len(list)]
 }
 
+// Apart: do no two of the lists share room? Each one's whole room is filled with a mark of its own, and must still have it at the end.
+func Apart(lists [][]int) bool {
+	for i, list := range lists {
+		for k := range Spare(list) {
+			Spare(list)[k] = 1000 + i
+		}
+	}
+	for i, list := range lists {
+		other := func(n int) bool { return n != 1000+i }
+		if slices.ContainsFunc(Spare(list), other) {
+			return false
+		}
+	}
+	return true
+}
+
 // ProgInRoom: a program of the machine, all its lists in room.
 func ProgInRoom(p api.Prog) api.Prog {
 	q := api.Prog{Types: InRoom(api.Layout{Fields: []int{5}}, p.Types), Funcs: InRoom(api.Func{Params: 9}, p.Funcs)}

@@ -27,3 +27,17 @@ func TestProgInRoom(t *testing.T) {
 		t.Error("a change of spare room is not seen")
 	}
 }
+
+func TestApart(t *testing.T) {
+	list := []int{1, 2, 3, 4}
+	for _, lists := range [][][]int{nil, {nil}, {nil, nil}, {list}, {list, nil, {}, {1, 2, 3, 4}}, {list[:2:2], list[2:]}, {list[:0:0], list}} {
+		if !sample.Apart(lists) {
+			t.Errorf("not apart: %v", lists)
+		}
+	}
+	for _, lists := range [][][]int{{list, list}, {list[:2], list[2:]}, {list[3:], nil, list[:0]}, {list[:3], {5}, list[:2:2]}} {
+		if sample.Apart(lists) {
+			t.Errorf("apart: %v", lists)
+		}
+	}
+}

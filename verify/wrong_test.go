@@ -91,17 +91,8 @@ func TestAnswersAreNew(t *testing.T) {
 	if e != api.OK || !slices.Contains(come, true) {
 		t.Fatalf("Stacks: %v, %v, %d", first, come, e)
 	}
-	for i, list := range first {
-		for j := range sample.Spare(list) {
-			sample.Spare(list)[j] = 1000 + i
-		}
-	}
-	for i, list := range first {
-		for _, x := range sample.Spare(list) {
-			if x != 1000+i {
-				t.Errorf("list %d has another's items: %v", i, sample.Spare(list))
-			}
-		}
+	if !sample.Apart(first) {
+		t.Errorf("lists share room: %v", first)
 	}
 	clear(sample.Spare(come))
 	if !reflect.DeepEqual(sample.ProgOpened(p), old) {
