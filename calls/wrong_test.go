@@ -33,35 +33,6 @@ func TestNothing(t *testing.T) {
 	wantTargets(t, api.Hier{Funcs: 1, Ifaces: [][]string{{""}}, Sites: []api.Site{{}}}, nil)
 }
 
-// inRoom: all lists have room behind their ends that is full of something else: a class, an interface, a site that would be found.
-func inRoom(h api.Hier) api.Hier {
-	g := api.Hier{Funcs: h.Funcs}
-	g.Classes = sample.InRoom(class([]int{1, 1, 1, 1}, "a", "b", "c", "d"), h.Classes)
-	g.Ifaces = sample.InRoom([]string{"a"}, h.Ifaces)
-	g.Sites = sample.InRoom(call(2, 3), h.Sites)
-	for i := range g.Classes {
-		c := &g.Classes[i]
-		c.Methods, c.Funcs = sample.InRoom("d", c.Methods), sample.InRoom(77, c.Funcs)
-	}
-	for i := range g.Ifaces {
-		g.Ifaces[i] = sample.InRoom("z", g.Ifaces[i])
-	}
-	return g
-}
-
-// opened: all its spare room in sight, in memory of its own.
-func opened(h api.Hier) api.Hier {
-	g := api.Hier{Funcs: h.Funcs, Classes: slices.Clone(sample.Spare(h.Classes)), Ifaces: slices.Clone(sample.Spare(h.Ifaces)), Sites: slices.Clone(sample.Spare(h.Sites))}
-	for i := range g.Classes {
-		c := &g.Classes[i]
-		c.Methods, c.Funcs = slices.Clone(sample.Spare(c.Methods)), slices.Clone(sample.Spare(c.Funcs))
-	}
-	for i := range g.Ifaces {
-		g.Ifaces[i] = slices.Clone(sample.Spare(g.Ifaces[i]))
-	}
-	return g
-}
-
 func doAll(h api.Hier) {
 	calls.Sound(h)
 	calls.Targets(h)
@@ -80,10 +51,10 @@ func TestNothingIsChanged(t *testing.T) {
 		list = append(list, h)
 	}
 	for _, h := range list {
-		g := inRoom(h)
-		old := opened(g)
+		g := sample.HierInRoom(h)
+		old := sample.HierOpened(g)
 		doAll(g)
-		if !reflect.DeepEqual(opened(g), old) {
+		if !reflect.DeepEqual(sample.HierOpened(g), old) {
 			t.Errorf("%+v was changed", h)
 		}
 		if a, b := calls.Sound(h), calls.Sound(g); a != b {
@@ -91,11 +62,11 @@ func TestNothingIsChanged(t *testing.T) {
 		}
 	}
 	want, _ := calls.Targets(world())
-	wantTargets(t, inRoom(world()), want...)
+	wantTargets(t, sample.HierInRoom(world()), want...)
 	all, _ := calls.Groups(world())
-	wantGroups(t, inRoom(world()), all...)
+	wantGroups(t, sample.HierInRoom(world()), all...)
 	d, _ := calls.Devirt(world())
-	wantDevirt(t, inRoom(world()), d)
+	wantDevirt(t, sample.HierInRoom(world()), d)
 }
 
 // wantApart: no two lists share room. What stands in them is gone then.
@@ -108,8 +79,8 @@ func wantApart(t *testing.T, lists [][]int) {
 
 // R4: lists that are answered share nothing with what was handed in, with one another, or with another answer.
 func TestListsAreNew(t *testing.T) {
-	h := inRoom(world())
-	old := opened(h)
+	h := sample.HierInRoom(world())
+	old := sample.HierOpened(h)
 	for name, do := range map[string]func(api.Hier) ([][]int, api.Errno){"Targets": calls.Targets, "Groups": calls.Groups} {
 		want, _ := do(world())
 		first, _ := do(h)
@@ -119,7 +90,7 @@ func TestListsAreNew(t *testing.T) {
 		if !same(again, want) {
 			t.Errorf("%s: the second answer hangs on the first: %v, want %v", name, again, want)
 		}
-		if !reflect.DeepEqual(opened(h), old) {
+		if !reflect.DeepEqual(sample.HierOpened(h), old) {
 			t.Errorf("%s: what was handed in hangs on the answer", name)
 		}
 	}
@@ -149,17 +120,17 @@ func spoil(h api.Hier) {
 // R4: what Devirt answers is new, in each list, with and without sites that are made direct.
 func TestDevirtIsNew(t *testing.T) {
 	for _, one := range []api.Hier{world(), direct(3, [2]int{2, 1}), {Funcs: 2, Classes: world().Classes[2:3], Ifaces: world().Ifaces}} {
-		h := inRoom(one)
-		old := opened(h)
+		h := sample.HierInRoom(one)
+		old := sample.HierOpened(h)
 		want, _ := calls.Devirt(one)
-		want = inRoom(want) // a copy, which hangs on no answer
+		want = sample.HierInRoom(want) // a copy, which hangs on no answer
 		first, _ := calls.Devirt(h)
 		again, _ := calls.Devirt(h)
 		spoil(first)
 		if !sameHier(again, want) {
 			t.Errorf("the second answer hangs on the first: %+v, want %+v", again, want)
 		}
-		if !reflect.DeepEqual(opened(h), old) {
+		if !reflect.DeepEqual(sample.HierOpened(h), old) {
 			t.Error("what was handed in hangs on the answer")
 		}
 		spoil(h)

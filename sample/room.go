@@ -65,4 +65,33 @@ func ProgOpened(p api.Prog) api.Prog {
 	return q
 }
 
+// HierInRoom: a Hier, all its lists in room, where there stand a class, an interface and a site that would be found.
+func HierInRoom(h api.Hier) api.Hier {
+	g := api.Hier{Funcs: h.Funcs}
+	g.Classes = InRoom(api.Class{Methods: []string{"a", "b", "c", "d"}, Funcs: []int{1, 1, 1, 1}}, h.Classes)
+	g.Ifaces = InRoom([]string{"a"}, h.Ifaces)
+	g.Sites = InRoom(api.Site{From: 2, To: 3, Iface: -1}, h.Sites)
+	for i := range g.Classes {
+		c := &g.Classes[i]
+		c.Methods, c.Funcs = InRoom("d", c.Methods), InRoom(77, c.Funcs)
+	}
+	for i := range g.Ifaces {
+		g.Ifaces[i] = InRoom("z", g.Ifaces[i])
+	}
+	return g
+}
+
+// HierOpened: a Hier with all its spare room in sight, in memory of its own.
+func HierOpened(h api.Hier) api.Hier {
+	g := api.Hier{Funcs: h.Funcs, Classes: opened(h.Classes), Ifaces: opened(h.Ifaces), Sites: opened(h.Sites)}
+	for i := range g.Classes {
+		c := &g.Classes[i]
+		c.Methods, c.Funcs = opened(c.Methods), opened(c.Funcs)
+	}
+	for i := range g.Ifaces {
+		g.Ifaces[i] = opened(g.Ifaces[i])
+	}
+	return g
+}
+
 func opened[T any](list []T) []T { return slices.Clone(Spare(list)) }

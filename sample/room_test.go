@@ -28,6 +28,34 @@ func TestProgInRoom(t *testing.T) {
 	}
 }
 
+func TestHierInRoom(t *testing.T) {
+	h := api.Hier{
+		Funcs:   4,
+		Classes: []api.Class{{Methods: []string{"x"}, Funcs: []int{3}}},
+		Ifaces:  [][]string{{"x"}}, Sites: []api.Site{{From: 1, Method: "x"}},
+	}
+	g := sample.HierInRoom(h)
+	if !reflect.DeepEqual(h, g) {
+		t.Errorf("%v; want %v", g, h)
+	}
+	all := sample.HierOpened(g)
+	if len(all.Classes) < 4 || len(all.Ifaces) < 4 || len(all.Sites) < 4 || len(all.Classes[0].Methods) < 4 || len(all.Classes[0].Funcs) < 4 || len(all.Ifaces[0]) < 4 {
+		t.Errorf("there is little room: %v", all)
+	}
+	for _, do := range []func(){
+		func() { sample.Spare(g.Sites)[1].To = 9 },
+		func() { sample.Spare(g.Classes[0].Methods)[1] = "y" },
+		func() { sample.Spare(g.Classes[0].Funcs)[1] = 9 },
+		func() { sample.Spare(g.Ifaces[0])[1] = "y" },
+	} {
+		old := sample.HierOpened(g)
+		do()
+		if reflect.DeepEqual(sample.HierOpened(g), old) {
+			t.Error("a change of spare room is not seen")
+		}
+	}
+}
+
 func TestApart(t *testing.T) {
 	list := []int{1, 2, 3, 4}
 	for _, lists := range [][][]int{nil, {nil}, {nil, nil}, {list}, {list, nil, {}, {1, 2, 3, 4}}, {list[:2:2], list[2:]}, {list[:0:0], list}} {

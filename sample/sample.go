@@ -1,4 +1,4 @@
-// Package sample writes programs for tests: well typed ones, which do much and seldom trap. What is chosen among is told by a function, so that one and the same choices make one and the same program.
+// Package sample writes programs for tests: well typed ones, which do much and seldom trap; and who calls whom in others. What is chosen among is told by a function, so that one and the same choices make one and the same program.
 package sample
 
 import (
