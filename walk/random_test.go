@@ -11,6 +11,7 @@ import (
 	"halyard/parse"
 	"halyard/print"
 	"halyard/sample"
+	"halyard/tally"
 	"halyard/walk"
 )
 
@@ -36,7 +37,7 @@ func hold(t *testing.T, n api.Node, fuel int) api.Report {
 	t.Helper()
 	got, want := walk.Run(n, fuel), api.Report{End: api.Rejected}
 	if check.Check(n) == api.OK {
-		want = referred(n, fuel)
+		want, _ = tally.Run(n, fuel)
 	}
 	if told(got) != told(want) {
 		src, _ := print.Text(n)

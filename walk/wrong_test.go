@@ -9,8 +9,10 @@ import (
 	"testing"
 
 	"halyard/api"
+	"halyard/cases"
 	"halyard/check"
 	"halyard/parse"
+	"halyard/tally"
 	"halyard/walk"
 )
 
@@ -87,7 +89,7 @@ func TestNoPrograms(t *testing.T) {
 
 // Each node of a program with each field changed: it is rejected just if it is not well typed.
 func TestChangedFields(t *testing.T) {
-	n := parsed(t, head+"func main() { i := 0; for { if i > 3 { break; } else if !(i > 1) { x := func(a int) int { return a; }; l := []int{1, 2}; i = x(l[0]) + len(\"abc\"[1:]) + i; s := S{i, nil}; print(s.m(2)); } print(i); i = i + 1; } }")
+	n := parsed(t, cases.Head+"func main() { i := 0; for { if i > 3 { break; } else if !(i > 1) { x := func(a int) int { return a; }; l := []int{1, 2}; i = x(l[0]) + len(\"abc\"[1:]) + i; s := S{i, nil}; print(s.m(2)); } print(i); i = i + 1; } }")
 	ends := map[int]int{}
 	for _, at := range nodes(&n) {
 		old := *at
@@ -99,7 +101,7 @@ func TestChangedFields(t *testing.T) {
 			r := walk.Run(n, 500)
 			if check.Check(n) != api.OK {
 				rejected(t, "changed", n, 500)
-			} else if want := referred(n, 500); told(r) != told(want) {
+			} else if want, _ := tally.Run(n, 500); told(r) != told(want) {
 				t.Errorf("%v was %v: %s; want %s", *at, old, told(r), told(want))
 			}
 			ends[r.End]++
@@ -131,27 +133,10 @@ func TestLongTexts(t *testing.T) {
 			t.Errorf("%v: %s", lengths, told(r))
 		}
 	}
-	eachRest(t, []rest{
-		{"s := \"a\"; for len(s) < 1024 { s = s + s; } print(len(s)); print(len(s + \"\")); t := text(s, 1) + text(\"b\", 2);", "1024 1024 1 2", "large"},
-		{"s := \"a\"; for true { s = s + s; }", "", "large"}, {"s := \"a\"; for true { s = s + \"b\"; }", "", "large"},
-		{"s := \"a\"; for len(s) < 1024 { s = s + s; } print(len(s[1:] + \"b\")); print(s + \"c\" == \"\");", "1024", "large"},
-	})
+	eachCase(t, cases.LongTexts())
 }
 
-// listOf: a list of so many values, the last of which is told.
-func listOf(count int, last string) string {
-	return "[]int{" + strings.Repeat("1, ", count-1) + last + "}"
-}
-
-func TestLongLists(t *testing.T) {
-	eachRest(t, []rest{
-		{"l := " + listOf(api.MaxLen, "say(5)") + "; print(len(l)); print(l[1023]); print(l[1022]);", "5 1024 5 1", ""},
-		{"l := " + listOf(api.MaxLen+1, "say(5)") + ";", "5", "large"}, {"l := " + listOf(5000, "say(5)") + ";", "5", "large"}, {"l := " + listOf(api.MaxLen+1, "1 / 0") + ";", "", "zero"}, {"print(len(" + listOf(api.MaxLen+1, "2") + "));", "", "large"},
-		{"l := append(list(" + listOf(api.MaxLen, "2") + ", 3), say(4));", "3 4", "large"}, {"l := " + listOf(api.MaxLen-1, "2") + "; l = append(l, 3); print(len(l)); print(l[1023]); m := l[:1023]; m = append(m, 4); print(l[1023]); l = append(l, 5);", "1024 3 4", "large"},
-		{"l := " + listOf(api.MaxLen, "2") + "; m := append(l[1:], 7); print(len(m)); print(m[1023]); m = append(m, 8);", "1024 7", "large"}, {"l := " + listOf(api.MaxLen, "2") + "; m := append(l[:3], 7); print(l[3]); m = append(m[:1023], 9);", "7", "range"},
-		{"var l []int; for true { l = append(l, len(l)); if len(l) == 1024 { print(l[1023]); } }", "1023", "large"}, {"var l []S; for len(l) < 1024 { l = append(l, S{len(l), nil}); } print(l[1000].a); p := &l[5]; l = append(l[:6], S{9, nil}); print(p.a); print(l[6].a);", "1000 5 9", ""},
-	})
-}
+func TestLongLists(t *testing.T) { eachCase(t, cases.LongLists()) }
 
 // Types that are not written may have more than MaxDepth parts on a way.
 func TestDeepPointers(t *testing.T) {
@@ -188,7 +173,7 @@ func TestDeepCalls(t *testing.T) {
 
 // R4 and R5: nothing that was handed in is changed or kept, and no two answers share anything.
 func TestMemory(t *testing.T) {
-	src := head + `func main() { s := "abc"; print(s); print(s[1:]); l := []S{S{1, nil}}; l = append(l, l[0]); l[1].m(4); x := func() int { return l[1].a; }; print(x()); print("abc"); }`
+	src := cases.Head + `func main() { s := "abc"; print(s); print(s[1:]); l := []S{S{1, nil}}; l = append(l, l[0]); l[1].m(4); x := func() int { return l[1].a; }; print(x()); print("abc"); }`
 	n := spare(parsed(t, src))
 	old := copied(n)
 	first := walk.Run(n, 100)
@@ -238,7 +223,7 @@ func same(a, b api.Node) bool {
 }
 
 func TestManyAtOnce(t *testing.T) {
-	n := parsed(t, head+"func main() { var l []S; i := 0; for i < 50 { l = append(l, S{i, nil}); print(l[i / 2].m(i)); i = i + 1; } }")
+	n := parsed(t, cases.Head+"func main() { var l []S; i := 0; for i < 50 { l = append(l, S{i, nil}); print(l[i / 2].m(i)); i = i + 1; } }")
 	want := told(walk.Run(n, 1000))
 	answers := make(chan string)
 	for range 8 {

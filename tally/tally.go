@@ -1,4 +1,5 @@
-package walk_test
+// Package tally carries trees out a second way, for tests, and counts what is done: memory is one list of cells, of which boxes are numbers; each value has its type beside it; scopes are maps, which are copied for what stands inside.
+package tally
 
 import (
 	"maps"
@@ -8,8 +9,6 @@ import (
 	"halyard/check"
 	"halyard/types"
 )
-
-// The second walker: memory is one list of cells, of which boxes are numbers; each value has its type beside it; scopes are maps, which are copied for what stands inside.
 
 // cell: a number, a truth (1 or 0), or an address (0 is nil); bytes; of a slice its address, length and room; of an interface its address and the struct's name; of a function its code.
 type cell struct {
@@ -41,12 +40,14 @@ type worth struct {
 type second struct {
 	prog   api.Node
 	table  []api.Decl
+	fields map[string][]api.Field // of structs
 	memory []cell
 	scope  map[string]seat
 	answer []worth
 	deep   int
 	fuel   int
 	report api.Report
+	count  Count
 }
 
 type over struct{}
@@ -69,17 +70,22 @@ func (r *second) step() {
 	r.report.Steps++
 }
 
-// referred: the report of a program that is well typed.
-func referred(prog api.Node, fuel int) (report api.Report) {
+// Run: the report of a program that is well typed, and the count.
+func Run(prog api.Node, fuel int) (report api.Report, count Count) {
 	table, _ := check.Table(prog)
-	r := &second{prog: prog, table: table, memory: make([]cell, 1), fuel: min(fuel, api.MaxFuel)}
+	r := &second{prog: prog, table: table, fields: map[string][]api.Field{}, memory: make([]cell, 1), fuel: min(fuel, api.MaxFuel)}
+	for _, d := range table {
+		if !d.Iface {
+			r.fields[d.Name] = d.Fields
+		}
+	}
 	defer func() {
 		if caught := recover(); caught != nil {
 			if _, ok := caught.(over); !ok {
 				panic(caught)
 			}
 		}
-		report = r.report
+		report, count = r.report, r.count
 	}()
 	main, _ := r.function("main")
 	r.enter(code{node: main}, nil)
@@ -114,14 +120,21 @@ func (r *second) layout(t api.Type) ([]api.Field, bool) {
 	if t.Kind != api.KName {
 		return nil, false
 	}
-	return types.Fields(r.table, t)
+	fields, ok := r.fields[t.Name]
+	return fields, ok
+}
+
+// boxes that a value of a type is given to.
+func (r *second) boxes(t api.Type) int {
+	fields, isStruct := r.layout(t)
+	if isStruct {
+		return len(fields)
+	}
+	return 1
 }
 
 // size: one at least, so that no two boxes have one address.
-func (r *second) size(t api.Type) int {
-	fields, _ := r.layout(t)
-	return max(1, len(fields))
-}
+func (r *second) size(t api.Type) int { return max(1, r.boxes(t)) }
 
 func (r *second) reserve(cells int) int {
 	at := len(r.memory)
@@ -139,6 +152,7 @@ func (r *second) fit(v worth, to api.Type) []cell {
 		return make([]cell, 1)
 	}
 	if to.Kind == api.KName && v.t.Kind == api.KPtr {
+		r.made(1)
 		return []cell{{n: v.cells[0].n, who: v.t.Kids[0].Name}}
 	}
 	return slices.Clone(v.cells)
@@ -147,6 +161,7 @@ func (r *second) fit(v worth, to api.Type) []cell {
 func (r *second) give(s seat, v worth) { copy(r.memory[s.at:], r.fit(v, s.t)) }
 
 func (r *second) declare(name string, t api.Type, v worth) {
+	r.made(r.boxes(t))
 	s := seat{t, r.reserve(r.size(t))}
 	r.give(s, v)
 	r.scope[name] = s
@@ -170,6 +185,7 @@ func (r *second) statement(n api.Node) string {
 		return r.block(n)
 	}
 	r.step()
+	r.count.Work++
 	switch n.Kind {
 	case api.SVar:
 		t := typed(n.Kids[0])
@@ -232,6 +248,7 @@ func (r *second) enter(c code, given []worth) []worth {
 		r.finish(api.NoStack, 0, 0)
 	}
 	r.deep++
+	r.count.Calls = max(r.count.Calls, r.deep)
 	outer := r.scope
 	r.scope = maps.Clone(c.around)
 	if r.scope == nil {

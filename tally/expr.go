@@ -1,15 +1,11 @@
-package walk_test
+package tally
 
 import (
 	"maps"
 	"slices"
-	"strconv"
 
 	"halyard/api"
-	"halyard/types"
 )
-
-// The second walker's expressions.
 
 func (r *second) values(list []api.Node) []worth {
 	if len(list) == 1 && list[0].Kind == api.ECall {
@@ -30,7 +26,11 @@ func (r *second) number(n api.Node) int { return r.value(n).cells[0].n }
 
 func number(n int) worth { return worth{only(api.KInt), []cell{{n: n}}} }
 
-func written(s string) worth { return worth{only(api.KStr), []cell{{bytes: s}}} }
+// bytes: a new string.
+func (r *second) bytes(s string) worth {
+	r.made(len(s))
+	return worth{only(api.KStr), []cell{{bytes: s}}}
+}
 
 func truth(yes bool) worth {
 	if yes {
@@ -40,11 +40,15 @@ func truth(yes bool) worth {
 }
 
 func (r *second) value(n api.Node) worth {
+	if n.Kind == api.ECall {
+		return r.call(n)[0]
+	}
+	r.count.Work++
 	switch n.Kind {
 	case api.EInt:
 		return number(n.Num)
 	case api.EStr:
-		return written(n.Text)
+		return r.bytes(n.Text)
 	case api.EBool:
 		return truth(n.Num == 1)
 	case api.ENil:
@@ -54,12 +58,14 @@ func (r *second) value(n api.Node) worth {
 			return r.read(s)
 		}
 		f, _ := r.function(n.Text)
+		r.made(1)
 		return worth{typed(f.Kids[0]), []cell{{code: &code{node: f}}}}
 	case api.ELit:
-		return r.made(n)
+		return r.literal(n)
 	case api.EList:
 		return r.list(n)
 	case api.EFunc:
+		r.made(1 + r.brought(n))
 		return worth{typed(n.Kids[0]), []cell{{code: &code{n, maps.Clone(r.scope)}}}}
 	case api.ESel:
 		return r.member(r.value(n.Kids[0]), n.Text)
@@ -72,18 +78,17 @@ func (r *second) value(n api.Node) worth {
 		return r.read(r.item(of, i))
 	case api.ECut:
 		return r.cut(n)
-	case api.ECall:
-		return r.call(n)[0]
 	case api.EUnary:
 		return r.unary(n)
 	}
 	return r.binary(n)
 }
 
-func (r *second) made(n api.Node) worth {
+func (r *second) literal(n api.Node) worth {
 	t := api.Type{Kind: api.KName, Name: n.Text}
 	fields, _ := r.layout(t)
 	cells := make([]cell, r.size(t))
+	r.made(len(fields))
 	for i, v := range r.each(n.Kids) {
 		cells[i] = r.fit(v, fields[i].Type)[0]
 	}
@@ -95,6 +100,7 @@ func (r *second) list(n api.Node) worth {
 	list := r.each(n.Kids[1:])
 	r.trapIf(len(list) > api.MaxLen, api.TrapLarge)
 	at := r.reserve(len(list) * r.size(t))
+	r.made(1 + len(list)*r.boxes(t))
 	for i, v := range list {
 		r.give(seat{t, at + i*r.size(t)}, v)
 	}
@@ -103,7 +109,10 @@ func (r *second) list(n api.Node) worth {
 
 // offset: which field of a struct a name is.
 func (r *second) offset(t api.Type, name string) (int, api.Type) {
-	fields, _ := types.Fields(r.table, t)
+	if t.Kind == api.KPtr {
+		t = t.Kids[0]
+	}
+	fields, _ := r.layout(t)
 	i := slices.IndexFunc(fields, func(f api.Field) bool { return f.Name == name })
 	return i, fields[i].Type
 }
@@ -139,11 +148,12 @@ func (r *second) cut(n api.Node) worth {
 	}
 	r.trapIf(from < 0 || from > to || to > length, api.TrapRange)
 	if of.t.Kind == api.KStr {
-		return written(c.bytes[from:to])
+		return r.bytes(c.bytes[from:to])
 	}
 	if c.n == 0 {
 		return of
 	}
+	r.made(1)
 	return worth{of.t, []cell{{n: c.n + from*r.size(of.t.Kids[0]), length: to - from, room: c.room - from}}}
 }
 
@@ -152,6 +162,11 @@ func hasSeat(n api.Node) bool {
 }
 
 func (r *second) place(n api.Node) seat {
+	r.count.Work++
+	return r.spot(n)
+}
+
+func (r *second) spot(n api.Node) seat {
 	switch n.Kind {
 	case api.EName:
 		return r.scope[n.Text]
@@ -190,7 +205,7 @@ func (r *second) unary(n api.Node) worth {
 	case "!":
 		return truth(r.number(n.Kids[0]) == 0)
 	case "*":
-		return r.read(r.place(n))
+		return r.read(r.spot(n))
 	}
 	s := r.seated(n.Kids[0])
 	return worth{only(api.KPtr, s.t), []cell{{n: s.at}}}
@@ -210,6 +225,7 @@ func (r *second) binary(n api.Node) worth {
 		return y
 	case "==", "!=":
 		same := a == b
+		r.count.Work += compared(a.bytes, b.bytes)
 		if x.t.Kind == api.KNil || y.t.Kind == api.KNil {
 			same = isEmpty(a) && isEmpty(b)
 		}
@@ -242,6 +258,9 @@ func (r *second) binary(n api.Node) worth {
 }
 
 func (r *second) ofBytes(operator, a, b string) worth {
+	if operator != "+" {
+		r.count.Work += compared(a, b)
+	}
 	switch operator {
 	case "<":
 		return truth(a < b)
@@ -253,86 +272,5 @@ func (r *second) ofBytes(operator, a, b string) worth {
 		return truth(a >= b)
 	}
 	r.trapIf(len(a)+len(b) > api.MaxLen, api.TrapLarge)
-	return written(a + b)
-}
-
-func (r *second) call(n api.Node) []worth {
-	f, arguments := n.Kids[0], n.Kids[1:]
-	if f.Kind == api.EName {
-		_, isVariable := r.scope[f.Text]
-		_, isFunction := r.function(f.Text)
-		if !isVariable && !isFunction {
-			return r.builtin(f.Text, r.each(arguments))
-		}
-	}
-	c, given := r.called(f)
-	given = append(given, r.each(arguments)...)
-	r.trapIf(c == nil, api.TrapNil)
-	return r.enter(*c, given)
-}
-
-func (r *second) called(f api.Node) (*code, []worth) {
-	if f.Kind != api.ESel {
-		return r.value(f).cells[0].code, nil
-	}
-	s := r.seated(f.Kids[0])
-	if _, ok := types.Method(r.table, s.t, f.Text); !ok {
-		return r.member(r.read(s), f.Text).cells[0].code, nil
-	}
-	at := r.memory[s.at]
-	name := s.t.Name
-	switch _, isStruct := r.layout(s.t); {
-	case s.t.Kind == api.KPtr:
-		name = s.t.Kids[0].Name
-	case isStruct:
-		at = cell{n: s.at}
-	default:
-		r.trapIf(at.who == "", api.TrapNil)
-		name = at.who
-	}
-	receiver := worth{only(api.KPtr, api.Type{Kind: api.KName, Name: name}), []cell{{n: at.n}}}
-	return &code{node: r.method(name, f.Text)}, []worth{receiver}
-}
-
-func (r *second) builtin(name string, given []worth) []worth {
-	first := given[0].cells[0]
-	switch name {
-	case "print":
-		text := first.bytes
-		if given[0].t.Kind == api.KInt {
-			text = strconv.Itoa(first.n)
-		} else if given[0].t.Kind == api.KBool {
-			text = []string{"false", "true"}[first.n]
-		}
-		for _, b := range []byte(text + "\n") {
-			if len(r.report.Out) == api.MaxOut {
-				r.finish(api.OutFull, 0, 0)
-			}
-			r.report.Out = append(r.report.Out, b)
-		}
-		return nil
-	case "panic":
-		r.finish(api.Trapped, api.TrapPanic, first.n)
-	case "len":
-		return []worth{number(len(first.bytes) + first.length)}
-	}
-	return []worth{r.appended(given[0], given[1])}
-}
-
-func (r *second) appended(to, v worth) worth {
-	s, t := to.cells[0], to.t.Kids[0]
-	size := r.size(t)
-	if s.length >= s.room {
-		r.trapIf(s.length == api.MaxLen, api.TrapLarge)
-		room := 4
-		if s.length >= 4 {
-			room = min(s.length*2, api.MaxLen)
-		}
-		at := r.reserve(room * size)
-		copy(r.memory[at:], r.memory[s.n:s.n+s.length*size])
-		s = cell{n: at, length: s.length, room: room}
-	}
-	r.give(seat{t, s.n + s.length*size}, v)
-	s.length++
-	return worth{to.t, []cell{s}}
+	return r.bytes(a + b)
 }
